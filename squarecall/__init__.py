@@ -1,0 +1,1 @@
+"""Squarecall: a caller's language, and the floor that dances it."""

@@ -1,0 +1,125 @@
+"""The package's files keep to the part of the language that they are written in.
+
+Only the rules that a plain look at the files can tell; each test is called by the rule's number.
+"""
+
+import ast
+import builtins
+import pathlib
+import re
+import unittest
+
+PACKAGE = pathlib.Path(__file__).resolve().parent.parent / "squarecall"
+
+STATEMENTS = (
+    ast.FunctionDef, ast.ClassDef, ast.ImportFrom, ast.Assign, ast.AugAssign, ast.AnnAssign, ast.If, ast.While,
+    ast.For, ast.Return, ast.Break, ast.Continue, ast.Pass, ast.Raise, ast.Try, ast.Expr,
+)
+OUTSIDE = (
+    ast.Div, ast.SetComp, ast.DictComp, ast.GeneratorExp, ast.NamedExpr, ast.Starred, ast.Await, ast.Yield,
+    ast.YieldFrom,
+)
+OWN_NAMES = (
+    "len range enumerate zip min max sum abs sorted reversed int str bool list tuple dict set frozenset isinstance "
+    "ord repr any all divmod Exception ValueError TypeError KeyError IndexError LookupError ZeroDivisionError "
+    "ArithmeticError OverflowError RuntimeError NotImplementedError AttributeError StopIteration object"
+).split()
+WORDS = (
+    "type typing typing_extensions enum Enum IntEnum StrEnum Flag IntFlag Generic Protocol ABC ABCMeta namedtuple "
+    "NamedTuple TypedDict TYPE_CHECKING abstractmethod"
+).split()
+METHODS = ("__init__", "__eq__", "__repr__", "__str__", "__len__")
+
+
+def files():
+    return sorted(path for path in PACKAGE.rglob("*") if "__pycache__" not in path.parts)
+
+
+def nodes():
+    for path in files():
+        for node in ast.walk(ast.parse(path.read_text(encoding="utf-8"))):
+            yield f"{path.name}:{getattr(node, 'lineno', 0)}", node
+
+
+class Language(unittest.TestCase):
+    def test_l1_files(self):
+        self.assertIn(PACKAGE / "__init__.py", files())
+        for path in files():
+            self.assertRegex(path.name, r"\A[a-z0-9_]+(\.py)?\Z")
+            self.assertTrue(path.is_dir() or path.suffix == ".py", path)
+
+    def test_l2_l16_imports(self):
+        for place, node in nodes():
+            self.assertNotIsInstance(node, ast.Import, place)
+            if isinstance(node, ast.ImportFrom):
+                self.assertEqual(node.level, 0, place)
+                self.assertRegex(node.module, r"\Asquarecall\.[a-z]+\Z", place)
+                self.assertNotIn("*", [alias.name for alias in node.names], place)
+
+    def test_l4_functions(self):
+        for place, node in nodes():
+            if isinstance(node, ast.arguments):
+                self.assertFalse(node.vararg or node.kwarg or node.kwonlyargs or node.posonlyargs, place)
+            if isinstance(node, (ast.FunctionDef, ast.ClassDef)):
+                self.assertEqual(node.decorator_list, [], place)
+
+    def test_l5_classes(self):
+        for place, node in nodes():
+            if isinstance(node, ast.ClassDef):
+                self.assertLessEqual(len(node.bases), 1, place)
+                for part in node.body:
+                    self.assertIsInstance(part, (ast.FunctionDef, ast.Pass), place)
+
+    def test_l6_statements(self):
+        for place, node in nodes():
+            if isinstance(node, ast.stmt):
+                self.assertIsInstance(node, STATEMENTS, place)
+            if isinstance(node, (ast.For, ast.While)):
+                self.assertEqual(node.orelse, [], place)
+            if isinstance(node, ast.Try):
+                self.assertEqual(node.finalbody, [], place)
+            if isinstance(node, ast.Assign):
+                self.assertEqual(len(node.targets), 1, place)
+
+    def test_l7_expressions(self):
+        for place, node in nodes():
+            self.assertNotIsInstance(node, OUTSIDE, place)
+            if isinstance(node, ast.Constant):
+                self.assertNotIsInstance(node.value, (float, complex, bytes), place)
+            if isinstance(node, ast.ListComp):
+                self.assertEqual(len(node.generators), 1, place)
+                self.assertLessEqual(len(node.generators[0].ifs), 1, place)
+
+    def test_l8_l12_names(self):
+        for place, node in nodes():
+            if isinstance(node, ast.Name):
+                self.assertTrue(node.id in OWN_NAMES or not hasattr(builtins, node.id), f"{place} {node.id}")
+                self.assertFalse(node.id.startswith("_"), f"{place} {node.id}")
+            if isinstance(node, ast.arg):
+                self.assertFalse(hasattr(builtins, node.arg), f"{place} {node.arg}")
+            if isinstance(node, ast.FunctionDef):
+                self.assertTrue(node.name in METHODS or not node.name.startswith("_"), f"{place} {node.name}")
+
+    def test_l10_sizes(self):
+        for path in files():
+            rows = path.read_text(encoding="utf-8").split("\n")
+            self.assertLessEqual(len(rows), 400, path)
+            for number, row in enumerate(rows, start=1):
+                self.assertLessEqual(len(row), 120, f"{path.name}:{number}")
+        for place, node in nodes():
+            if isinstance(node, ast.FunctionDef):
+                self.assertLessEqual(node.end_lineno - node.lineno + 1, 40, place)
+
+    def test_l14_signs(self):
+        for path in files():
+            self.assertRegex(path.read_bytes(), rb"\A[ -~\n]*\Z", path)
+
+    def test_l17_words(self):
+        for path in files():
+            text = path.read_text(encoding="utf-8")
+            for word in WORDS:
+                self.assertIsNone(re.search(rf"\b{word}\b", text), f"{path.name}: {word}")
+
+
+if __name__ == "__main__":
+    unittest.main()
