@@ -1,5 +1,7 @@
 """Spots, dancers, stands and floors."""
 
+from squarecall.errors import Meet
+
 HOME = (
     (-1, -3, 0),
     (1, -3, 0),
@@ -47,6 +49,21 @@ def is_floor(thing):
     if not all([is_stand(stand) for stand in thing]):
         return False
     return len(set([spot_of(stand) for stand in thing])) == DANCERS
+
+
+def first_meeting(stands):
+    for one in range(len(stands)):
+        for other in range(one + 1, len(stands)):
+            if spot_of(stands[one]) == spot_of(stands[other]):
+                return (one, other)
+    return None
+
+
+def floor_of(stands):
+    meeting = first_meeting(stands)
+    if meeting is not None:
+        raise Meet(meeting[0], meeting[1])
+    return tuple(stands)
 
 
 def spot_from(stand, ahead, right):

@@ -2,6 +2,13 @@
 
 QUARTERS = 4
 
+# How many quarters to the left each word tells.
+QUARTERS_OF = {"same": 0, "left": 1, "about": 2, "right": 3}
+
+
+def turned_facing(facing, way):
+    return (facing + QUARTERS_OF[way]) % QUARTERS
+
 
 def turned_stand(stand):
     return (-stand[1], stand[0], (stand[2] + 1) % QUARTERS)

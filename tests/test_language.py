@@ -28,6 +28,11 @@ WORDS = (
     "type typing typing_extensions enum Enum IntEnum StrEnum Flag IntFlag Generic Protocol ABC ABCMeta namedtuple "
     "NamedTuple TypedDict TYPE_CHECKING abstractmethod"
 ).split()
+VALUE_METHODS = (
+    "append clear copy count endswith extend find get index insert isalnum isalpha isdigit islower isspace isupper "
+    "items join keys ljust lower lstrip partition pop remove replace reverse rfind rjust rpartition rsplit rstrip "
+    "setdefault split splitlines startswith strip update upper values zfill bit_length"
+).split()
 METHODS = ("__init__", "__eq__", "__repr__", "__str__", "__len__")
 
 
@@ -113,6 +118,34 @@ class Language(unittest.TestCase):
     def test_l14_signs(self):
         for path in files():
             self.assertRegex(path.read_bytes(), rb"\A[ -~\n]*\Z", path)
+
+    def test_l15_names_once(self):
+        for path in files():
+            tree = ast.parse(path.read_text(encoding="utf-8"))
+            bound = [node.name for node in tree.body if isinstance(node, (ast.FunctionDef, ast.ClassDef))]
+            bound += [target.id for node in tree.body if isinstance(node, ast.Assign) for target in node.targets]
+            bound += [alias.asname or alias.name for node in tree.body if isinstance(node, ast.ImportFrom)
+                      for alias in node.names]
+            self.assertEqual(len(bound), len(set(bound)), path.name)
+            for part in tree.body:
+                for node in ast.walk(part):
+                    if isinstance(part, (ast.FunctionDef, ast.ClassDef)) and isinstance(node, ast.arg):
+                        self.assertNotIn(node.arg, bound, f"{path.name}:{node.lineno}")
+                    if isinstance(part, (ast.FunctionDef, ast.ClassDef)) and isinstance(node, ast.Name):
+                        if isinstance(node.ctx, ast.Store):
+                            self.assertNotIn(node.id, bound, f"{path.name}:{node.lineno}")
+
+    def test_l20_is(self):
+        for place, node in nodes():
+            if isinstance(node, ast.Compare) and isinstance(node.ops[0], (ast.Is, ast.IsNot)):
+                self.assertIsInstance(node.comparators[0], ast.Constant, place)
+                self.assertIn(node.comparators[0].value, (None, True, False), place)
+
+    def test_l25_methods(self):
+        own = [node.name for place, node in nodes() if isinstance(node, ast.FunctionDef)]
+        for place, node in nodes():
+            if isinstance(node, ast.Call) and isinstance(node.func, ast.Attribute):
+                self.assertIn(node.func.attr, VALUE_METHODS + own, place)
 
     def test_l17_words(self):
         for path in files():
