@@ -26,22 +26,26 @@ def stand_behind(stand, step):
     return (spot[0], spot[1], stand[2])
 
 
-def way_of(dancer, stand, steps):
+def way_of(stand, steps):
     way = [stand]
     for step in steps:
-        if step[0] == "stay":
-            continue
-        behind = stand_behind(way[-1], step)
-        if not is_stand(behind):
-            raise Out(dancer)
-        way.append(behind)
+        if step[0] != "stay":
+            way.append(stand_behind(way[-1], step))
     return way
+
+
+def kept_in(told):
+    for dancer, way in enumerate(told):
+        # A way begins where its dancer stands: only where the steps come to is looked at.
+        if not all([is_stand(stand) for stand in way[1:]]):
+            raise Out(dancer)
+    return told
 
 
 def ways(floor, call, some=None):
     # All steps are told ahead of the first way: any Blind comes ahead of each Out.
     steps = [steps_of(floor, dancer, call, some) for dancer in range(DANCERS)]
-    return [way_of(dancer, floor[dancer], steps[dancer]) for dancer in range(DANCERS)]
+    return kept_in([way_of(floor[dancer], steps[dancer]) for dancer in range(DANCERS)])
 
 
 def danced(floor, call, some=None):

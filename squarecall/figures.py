@@ -1,4 +1,4 @@
-"""Numbers as they are written in calls."""
+"""Numbers as they are written in calls and programs."""
 
 
 def number_of(word, least, most):

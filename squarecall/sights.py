@@ -3,6 +3,8 @@
 from squarecall.floors import opposite, partner, spot_from, spot_of, who_at
 from squarecall.turnings import turned_facing
 
+DRIFTS = ("inward", "outward", "sideways")
+
 
 def is_head(dancer):
     return dancer // 2 % 2 == 0
@@ -24,19 +26,24 @@ def drift(stand):
     return "inward" if behind < before else "outward"
 
 
-def sees(floor, dancer, test):
-    own = floor[dancer]
-    what = test[3]
-    who = who_at(floor, spot_from(own, test[1], test[2]))
+# Apart from sees, for pairs look so, too: they have neither partner nor opposite.
+def looks(own, stands, who, what):
     if who is None:
         return what == "none"
     if what in ("none", "any"):
         return what == "any"
+    return stands[who][2] == turned_facing(own[2], what)
+
+
+def sees(floor, dancer, test):
+    own = floor[dancer]
+    what = test[3]
+    who = who_at(floor, spot_from(own, test[1], test[2]))
     if what == "partner":
         return who == partner(dancer)
     if what == "opposite":
         return who == opposite(dancer)
-    return floor[who][2] == turned_facing(own[2], what)
+    return looks(own, floor, who, what)
 
 
 def is_such(dancer, word):
@@ -53,7 +60,7 @@ def holds(floor, dancer, test):
         return sees(floor, dancer, test)
     if word == "inner":
         return distance(spot_of(floor[dancer])) <= test[1]
-    if word in ("inward", "outward", "sideways"):
+    if word in DRIFTS:
         return drift(floor[dancer]) == word
     return is_such(dancer, word)
 

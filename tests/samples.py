@@ -2,11 +2,43 @@
 
 import random
 
+from squarecall import errors
+from squarecall.errors import FloorError
 from squarecall.floors import HOME
 
 WHATS = ("none", "any", "same", "left", "about", "right", "partner", "opposite")
 LONE_WORDS = ("head", "side", "lefts", "rights", "inward", "outward", "sideways")
 GOINGS = ("ahead", "back", "left", "right")
+SOMES = ("heads", "sides", "lefts", "rights")
+
+REFUSALS = (
+    errors.NotEven, errors.NoCall, errors.NoName, errors.NoProgram, errors.TooMany, errors.NoPairs, errors.NoRow,
+    errors.Blind, errors.Out, errors.Meet, errors.Broken,
+)
+
+
+def others(kind):
+    """All refusals but those of this class."""
+    return tuple(other for other in REFUSALS if other is not kind)
+
+
+def shown_refusal(error):
+    """A refusal as a tuple: its class's name, and its fields."""
+    fields = {"Blind": ("who",), "Out": ("who",), "Meet": ("one", "other"), "Broken": ("at", "why")}
+    told = [getattr(error, field) for field in fields.get(type(error).__name__, ())]
+    return (type(error).__name__, *[shown_refusal(part) if isinstance(part, FloorError) else part for part in told])
+
+
+def answer_of(doing, *given):
+    """What is told, or the refusal, shown."""
+    try:
+        return doing(*given)
+    except FloorError as error:
+        return shown_refusal(error)
+
+
+def is_refusal(told):
+    return isinstance(told, tuple) and isinstance(told[0], str)
 
 
 def with_stand(floor, dancer, stand):
@@ -77,3 +109,65 @@ def many(count=300):
             floor = tuple((x + 196, y - 196, facing) for x, y, facing in floor)
         told.append((floor, some_call(source)))
     return told
+
+
+def pair_stands(middle):
+    """The stands of the left and the right one of a pair, by its middle and its facing."""
+    x, y, facing = middle
+    east, north = ((1, 0), (0, 1), (-1, 0), (0, -1))[facing]
+    return (x - east, y - north, facing), (x + east, y + north, facing)
+
+
+def floor_of_pairs(pairs):
+    """A floor of pairs, a dict from (left one, right one) to their middle, with its facing."""
+    stands = {}
+    for pair, middle in pairs.items():
+        stands[pair[0]], stands[pair[1]] = pair_stands(middle)
+    return tuple(stands[dancer] for dancer in range(8))
+
+
+def some_paired_floor(source, width=4):
+    """A floor of four pairs, no two of one middle, the dancers as it comes."""
+    while True:
+        dancers = source.sample(range(8), 8)
+        middles = [(source.randint(-width, width), source.randint(-width, width), source.randrange(4))
+                   for pair in range(4)]
+        floor = floor_of_pairs({tuple(dancers[place * 2:place * 2 + 2]): middles[place] for place in range(4)})
+        if len({stand[:2] for stand in floor}) == 8 and len({middle[:2] for middle in middles}) == 4:
+            return floor
+
+
+def moved(floor, east, north):
+    return tuple((x + east, y + north, facing) for x, y, facing in floor)
+
+
+def many_paired(count=300):
+    """Floors of pairs, near the bounds too, each with a call; and some floors without pairs."""
+    source = random.Random(19)
+    told = [(HOME, some_call(source)) for place in range(count // 10)]
+    for place in range(count):
+        floor = some_floor(source) if place % 9 == 0 else some_paired_floor(source)
+        if place % 5 == 0:
+            floor = moved(floor, source.choice((0, 195, -195)), source.choice((195, -195)))
+        told.append((floor, some_call(source)))
+    return told
+
+
+def some_items(source, names, depth=0):
+    """A row of items of a program, brackets within brackets."""
+    items = []
+    for place in range(source.randrange(1, 4)):
+        kind = source.randrange(9) if depth < 4 else 0
+        if kind < 5:
+            items.append(("call", source.choice(names)))
+            continue
+        inside = some_items(source, names, depth + 1)
+        if kind == 5:
+            items.append(("times", source.randrange(1, 4), inside))
+        elif kind == 6:
+            items.append(("some", source.choice(SOMES), inside))
+        elif kind == 7:
+            items.append(("inner", source.choice((2, 3, 4, 5, 6, 9, 200)), inside))
+        else:
+            items.append(("couples", inside))
+    return items

@@ -85,12 +85,21 @@ class Language(unittest.TestCase):
                 self.assertEqual(node.finalbody, [], place)
             if isinstance(node, ast.Assign):
                 self.assertEqual(len(node.targets), 1, place)
+                self.assertNotIsInstance(node.targets[0], (ast.Tuple, ast.List), place)
+            if isinstance(node, (ast.FunctionDef, ast.ClassDef)):
+                for part in node.body:
+                    if isinstance(part, ast.Expr):
+                        self.assertIsInstance(part.value, ast.Call, place)
 
     def test_l7_expressions(self):
         for place, node in nodes():
             self.assertNotIsInstance(node, OUTSIDE, place)
             if isinstance(node, ast.Constant):
                 self.assertNotIsInstance(node.value, (float, complex, bytes), place)
+            if isinstance(node, ast.FormattedValue):
+                self.assertIsInstance(node.value, ast.Name, place)
+                self.assertIsNone(node.format_spec, place)
+                self.assertIn(node.conversion, (-1, ord("r")), place)
             if isinstance(node, ast.ListComp):
                 self.assertEqual(len(node.generators), 1, place)
                 self.assertLessEqual(len(node.generators[0].ifs), 1, place)
@@ -134,6 +143,23 @@ class Language(unittest.TestCase):
                     if isinstance(part, (ast.FunctionDef, ast.ClassDef)) and isinstance(node, ast.Name):
                         if isinstance(node.ctx, ast.Store):
                             self.assertNotIn(node.id, bound, f"{path.name}:{node.lineno}")
+
+    def test_l18_no_name_is_a_method_and_a_value(self):
+        methods = [part.name for place, node in nodes() if isinstance(node, ast.ClassDef) for part in node.body
+                   if isinstance(part, ast.FunctionDef)]
+        for place, node in nodes():
+            if isinstance(node, ast.Attribute) and isinstance(node.ctx, ast.Store):
+                self.assertNotIn(node.attr, methods, place)
+
+    def test_l19_errors(self):
+        for place, node in nodes():
+            if isinstance(node, ast.ExceptHandler):
+                self.assertIsNotNone(node.type, place)
+                for part in ast.walk(node.type):
+                    if isinstance(part, ast.Name):
+                        self.assertNotIn(part.id, ("Exception", "TypeError"), place)
+            if isinstance(node, ast.Raise):
+                self.assertIsInstance(node.exc, ast.Call, place)
 
     def test_l20_is(self):
         for place, node in nodes():
