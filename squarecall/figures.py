@@ -1,4 +1,4 @@
-"""Numbers as they are written in calls and programs."""
+"""Numbers as they are written in calls, in programs and in rows of the desk."""
 
 
 def number_of(word, least, most):

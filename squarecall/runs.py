@@ -57,3 +57,8 @@ def run(book, floor, items):
     course = Run(book, floor)
     course.go_on(items, list(range(DANCERS)), False)
     return course.floors[1:]
+
+
+def last_floor(floor, floors):
+    # A run without calls ends where it began.
+    return floors[-1] if floors else floor

@@ -1,10 +1,13 @@
 """Floors and calls for the tests to walk through, the same ones at each run."""
 
+import itertools
 import random
 
 from squarecall import errors
+from squarecall.dances import danced
 from squarecall.errors import FloorError
 from squarecall.floors import HOME
+from squarecall.turnings import form, turned
 
 WHATS = ("none", "any", "same", "left", "about", "right", "partner", "opposite")
 LONE_WORDS = ("head", "side", "lefts", "rights", "inward", "outward", "sideways")
@@ -171,3 +174,50 @@ def some_items(source, names, depth=0):
         else:
             items.append(("couples", inside))
     return items
+
+
+def counting_texts(capped, edge=10):
+    """Five calls, each of which brings some dancers a step farther out.
+
+    By nine of them 2002 floors are come to from home; fewer by one for each of the calls, from the
+    first one on, that is capped: whoever is beyond the edge stays.
+    """
+    whom = {"a": "head and lefts", "b": "side and lefts", "c": "head and rights", "d": "side and rights"}
+    texts = {name: f"{tests} > back 1 ; > stay" for name, tests in whom.items()}
+    for name in "abcd"[:capped]:
+        texts[name] = f"{whom[name]} and inner {edge} > back 1 ; > stay"
+    return {**texts, "e": "head and rights > right 1 ; > stay"}
+
+
+def rows_by_all_ways(book, floor, names, length):
+    """The rows come to, by going through all rows of names, the shorter ones first."""
+    rows = [(form(floor), 0, None, None)]
+    places = {form(floor): 0}
+    for depth in range(1, length + 1):
+        for way in itertools.product(names, repeat=depth):
+            ahead = floor_by(book, floor, way[:-1])
+            behind = None if ahead is None else floor_by(book, ahead, way[-1:])
+            if behind is not None and form(behind) not in places:
+                places[form(behind)] = len(rows)
+                rows.append((form(behind), depth, places[form(ahead)], way[-1]))
+    return rows
+
+
+def floor_by(book, floor, way):
+    """The floor behind these calls, danced by all, or None."""
+    for name in way:
+        told = answer_of(danced, floor, book.call(name))
+        if is_refusal(told):
+            return None
+        floor = told
+    return floor
+
+
+def way_by_all_ways(book, floor, names, length):
+    """The way home, by going through all rows of names, the shorter ones first."""
+    for depth in range(length + 1):
+        for way in itertools.product(names, repeat=depth):
+            behind = floor_by(book, floor, way)
+            if behind is not None and behind in [turned(HOME, quarters) for quarters in range(4)]:
+                return list(way)
+    return None

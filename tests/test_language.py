@@ -61,6 +61,25 @@ class Language(unittest.TestCase):
                 self.assertRegex(node.module, r"\Asquarecall\.[a-z]+\Z", place)
                 self.assertNotIn("*", [alias.name for alias in node.names], place)
 
+    def test_l16_from_the_file_that_defines_the_name_and_not_in_a_ring(self):
+        defined, drawn = {}, {}
+        for path in files():
+            tree = ast.parse(path.read_text(encoding="utf-8"))
+            defined[path.stem] = [node.name for node in tree.body if isinstance(node, (ast.FunctionDef, ast.ClassDef))]
+            defined[path.stem] += [node.targets[0].id for node in tree.body if isinstance(node, ast.Assign)]
+            drawn[path.stem] = [(node.module.split(".")[1], alias.name) for node in tree.body
+                                if isinstance(node, ast.ImportFrom) for alias in node.names]
+        for stem, names in drawn.items():
+            for module, name in names:
+                self.assertIn(name, defined[module], f"{stem}.py")
+        # A file may be struck out once all that it draws from are; a ring would stay.
+        left = dict(drawn)
+        while left:
+            free = [stem for stem in left if not any(module in left for module, name in left[stem])]
+            self.assertNotEqual(free, [], sorted(left))
+            for stem in free:
+                del left[stem]
+
     def test_l4_functions(self):
         for place, node in nodes():
             if isinstance(node, ast.arguments):
@@ -172,6 +191,28 @@ class Language(unittest.TestCase):
         for place, node in nodes():
             if isinstance(node, ast.Call) and isinstance(node.func, ast.Attribute):
                 self.assertIn(node.func.attr, VALUE_METHODS + own, place)
+
+    def test_l26_values(self):
+        taken = {name for kind in (str, int, list, dict, set, bytes, tuple) for name in dir(kind)}
+        for place, node in nodes():
+            if isinstance(node, ast.Attribute) and isinstance(node.ctx, ast.Store):
+                self.assertNotIn(node.attr, taken, place)
+            if isinstance(node, ast.ClassDef):
+                for part in node.body:
+                    if isinstance(part, ast.FunctionDef) and part.name != "__init__":
+                        self.assertNotIn(part.name, taken, place)
+
+    def test_l27_numbers_and_texts(self):
+        for place, node in nodes():
+            self.assertNotIsInstance(node, ast.Pow, place)
+            if isinstance(node, ast.Constant) and isinstance(node.value, str):
+                self.assertNotIn("%", node.value, place)
+
+    def test_l28_no_method_with_two_underscores_but_the_making(self):
+        for place, node in nodes():
+            if isinstance(node, ast.FunctionDef) and node.name.startswith("__"):
+                self.assertEqual(node.name, "__init__", place)
+                self.assertEqual([part for part in ast.walk(node) if isinstance(part, ast.Return)], [], place)
 
     def test_l17_words(self):
         for path in files():
